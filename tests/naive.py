@@ -1,0 +1,102 @@
+"""The words of the document, step by step and without any care for speed, to compare the program with."""
+
+from itertools import combinations_with_replacement, product
+
+
+def trimmed(rows):
+    rows = [tuple(row) for row in rows]
+    while rows and not any(rows[-1]):
+        rows.pop()
+    return tuple(rows)
+
+
+def throw(state, beat):
+    """Return (next state, None), or (None, least hand that clashes)."""
+    hands = len(beat)
+    due = state[0] if state else (0,) * hands
+    for hand in range(hands):
+        if len(beat[hand]) != due[hand]:
+            return None, hand
+    rows = [list(row) for row in state[1:]]
+    for throws in beat:
+        for height, target in throws:
+            while len(rows) < height:
+                rows.append([0] * hands)
+            rows[height - 1][target] += 1
+    return trimmed(rows), None
+
+
+def throw_all(state, beats):
+    """Return (last state, None), or (None, (index, hand)) of the first clash."""
+    for index, beat in enumerate(beats):
+        state, hand = throw(state, beat)
+        if hand is not None:
+            return None, (index, hand)
+    return state, None
+
+
+def runs_from(pattern, state):
+    return throw_all(state, pattern)[0] == state
+
+
+def uneven(pattern):
+    """Return the (index, hand) at which the pattern is not even, in ascending order."""
+    found = []
+    for index in range(len(pattern)):
+        for hand in range(len(pattern[0])):
+            landing = [
+                throw
+                for at, beat in enumerate(pattern)
+                for throws in beat
+                for throw in throws
+                if (at + throw[0]) % len(pattern) == index and throw[1] == hand
+            ]
+            if len(landing) != len(pattern[index][hand]):
+                found.append((index, hand))
+    return found
+
+
+def state_of_past(pattern, index):
+    """Return what is in the air before the beat index, if the pattern was thrown for long before it."""
+    heights = [height for beat in pattern for throws in beat for height, _ in throws]
+    highest = max(heights, default=0)
+    rows = [[0] * len(pattern[0]) for _ in range(highest)]
+    for at in range(index - highest, index):
+        for throws in pattern[at % len(pattern)]:
+            for height, target in throws:
+                if at + height >= index:
+                    rows[at + height - index][target] += 1
+    return trimmed(rows)
+
+
+def beats(hands, highest, most):
+    """Return all beats with throws up to this height and at most so many in each hand."""
+    throws = [(height, hand) for height in range(1, highest + 1) for hand in range(hands)]
+    items = [item for many in range(most + 1) for item in combinations_with_replacement(throws, many)]
+    return list(product(items, repeat=hands))
+
+
+def patterns(hands, period, highest, most):
+    return list(product(beats(hands, highest, most), repeat=period))
+
+
+def states(hands, row_count, most):
+    """Return all states with at most so many rows and numbers up to most."""
+    rows = list(product(range(most + 1), repeat=hands))
+    return sorted({trimmed(some) for some in product(rows, repeat=row_count)})
+
+
+def one_hand(*heights):
+    """Return the pattern of one hand with these heights, 0 for no throw."""
+    return tuple((((height, 0),),) if height else ((),) for height in heights)
+
+
+SMALL_PATTERNS = [
+    *patterns(1, 1, 5, 3),
+    *patterns(1, 2, 5, 2),
+    *patterns(1, 3, 3, 2),
+    *patterns(1, 4, 4, 1),
+    *patterns(2, 1, 3, 2),
+    *patterns(2, 2, 3, 1),
+    *patterns(3, 1, 2, 1),
+]

@@ -1,0 +1,1 @@
+"""Throwskept: throws that go on for ever."""
