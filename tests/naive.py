@@ -86,6 +86,74 @@ def states(hands, row_count, most):
     return sorted({trimmed(some) for some in product(rows, repeat=row_count)})
 
 
+def next_states(state, hands, highest):
+    """Return all states that come behind a beat with throws up to this height."""
+    due = state[0] if state else (0,) * hands
+    throws = [(height, hand) for height in range(1, highest + 1) for hand in range(hands)]
+    choices = [combinations_with_replacement(throws, number) for number in due]
+    return sorted({throw(state, beat)[0] for beat in product(*choices)})
+
+
+def walk_lengths(one, hands, highest):
+    """Return a dict from each state that can be reached to the least number of beats, by a walk over all states."""
+    lengths = {one: 0}
+    queue = [one]
+    for state in queue:
+        for behind in next_states(state, hands, highest):
+            if behind not in lengths:
+                lengths[behind] = lengths[state] + 1
+                queue.append(behind)
+    return lengths
+
+
+def least_length(one, other):
+    """Return the least length of a bridge in the words of the document, or None."""
+    if sum(map(sum, one)) != sum(map(sum, other)):
+        return None
+    k = 0
+    while not all(
+        number <= (other[at - k][hand] if at - k < len(other) else 0)
+        for at, row in enumerate(one)
+        for hand, number in enumerate(row)
+        if at >= k
+    ):
+        k += 1
+    return k
+
+
+def turns(heights):
+    """Return the turns, moving the first item to the end again and again."""
+    found = [heights]
+    while len(found) < len(heights):
+        heights = heights[1:] + heights[:1]
+        found.append(heights)
+    return found
+
+
+def cards_beat_by_beat(heights):
+    """Return the cards of plain heights, thrown from the start."""
+    pattern = one_hand(*heights)
+    state = state_of_past(pattern, 0)
+    cards = []
+    for beat, height in zip(pattern, heights):
+        state, hand = throw(state, beat)
+        assert hand is None
+        cards.append(sum(row[0] for row in state[:height]))
+    return tuple(cards)
+
+
+def plain_heights(n, things):
+    """Return all plain heights with so many items and things, in ascending order, by trying all heights."""
+    if n == 1:
+        return [(things,)]
+    found = []
+    for some in product(range(n * things + 1), repeat=n - 1):
+        heights = (*some, n * things - sum(some))
+        if heights[-1] >= 0 and not uneven(one_hand(*heights)):
+            found.append(heights)
+    return found
+
+
 def one_hand(*heights):
     """Return the pattern of one hand with these heights, 0 for no throw."""
     return tuple((((height, 0),),) if height else ((),) for height in heights)

@@ -27,10 +27,7 @@ def run(state, beats):
 
 def start_of(pattern):
     """Return the start of the pattern."""
-    spots = uneven_spots(pattern)
-    if spots:
-        index, hand = spots[0]
-        raise Clash(index, hand)
+    check_even(pattern)
     return start_of_even(pattern)
 
 
@@ -99,6 +96,20 @@ def uneven_spots(pattern):
         for hand, throws in enumerate(beat)
         if landing.get((index, hand), 0) != len(throws)
     ]
+
+
+def check_even(pattern):
+    """Raise Clash at the least index and the least hand there at which the pattern is not even, if there is one."""
+    spots = uneven_spots(pattern)
+    if spots:
+        index, hand = spots[0]
+        raise Clash(index, hand)
+
+
+def start_thing_count(pattern):
+    """Return the number of the things of the start of a pattern that is even everywhere."""
+    heights = [height for beat in pattern for throws in beat for height, _ in throws]
+    return sum(heights) // len(pattern)
 
 
 def start_of_even(pattern):
