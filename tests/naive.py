@@ -1,6 +1,6 @@
 """The words of the document, step by step and without any care for speed, to compare the program with."""
 
-from itertools import combinations_with_replacement, product
+from itertools import combinations, combinations_with_replacement, product
 
 
 def trimmed(rows):
@@ -157,6 +157,60 @@ def plain_heights(n, things):
 def one_hand(*heights):
     """Return the pattern of one hand with these heights, 0 for no throw."""
     return tuple((((height, 0),),) if height else ((),) for height in heights)
+
+
+def plain_states(things, farthest):
+    """Return all plain states with at most so many things, at beats up to the farthest one."""
+    beats = range(farthest + 1)
+    return [state for number in range(things + 1) for state in combinations(beats, number)]
+
+
+def plain_behind(one, heights):
+    """Return the plain state behind the heights, or None if they are thrown wrongly or two things land at a beat."""
+    landing = set(one)
+    for height in heights:
+        if (height > 0) != (0 in landing) or height in landing - {0}:
+            return None
+        landing.discard(0)
+        landing = {at - 1 for at in landing | ({height} if height else set())}
+    return tuple(sorted(landing))
+
+
+def plain_bridges_from(one, k, farthest):
+    """Return a dict from states to all bridges of k items to them, by trying all heights.
+
+    The states with things at beats up to the farthest one are complete.
+    """
+    found = {}
+    for heights in product(*[range(k - beat + farthest + 1) for beat in range(k)]):
+        other = plain_behind(one, heights)
+        if other is not None:
+            found.setdefault(other, []).append(list(heights))
+    return found
+
+
+def roads(one, heights):
+    """Return (beats of the road, its end) for each road, in the order in which they begin."""
+    found = []
+    for at in one:
+        if at < len(heights):
+            beats = [at]
+            while beats[-1] < len(heights):
+                beats.append(beats[-1] + heights[beats[-1]])
+            found.append((beats[:-1], beats[-1]))
+    return found
+
+
+def choices(one, heights):
+    """Return the choices of a plain bridge."""
+    ways = roads(one, heights)
+    found = []
+    for beat in range(len(heights)):
+        if beat not in one:
+            found.append(sum(number for number, (beats, _) in enumerate(ways, 1) if beat in beats))
+    for number, (_, end) in enumerate(ways):
+        found.append(len([later for _, later in ways[number + 1:] if later < end]))
+    return tuple(found)
 
 
 SMALL_PATTERNS = [

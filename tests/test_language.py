@@ -7,7 +7,15 @@ import unittest
 FOLDER = pathlib.Path(__file__).resolve().parent.parent / "throwskept"
 FILES = sorted(path for path in FOLDER.rglob("*") if path.is_file() and path.suffix != ".pyc")
 
-CLASSES = {"errors": ["ThrowError", "Clash", "NoBridge", "NoPlace", "NotPlain", "BadText"]}
+CLASSES = {
+    "errors": ["ThrowError", "Clash", "NoBridge", "NoPlace", "NotPlain", "BadText"],
+    "show": ["Show"],
+}
+
+METHODS = {
+    ("show", "Show"): ["__init__(self, pattern)", "go(self, count)", "change(self, pattern)", "state(self)",
+                       "due(self)", "thrown(self)"],
+}
 
 FUNCTIONS = {
     "states": ["thing_count(state)", "after(state, beat)", "run(state, beats)", "start_of(pattern)",
@@ -18,12 +26,19 @@ FUNCTIONS = {
               "least_turn(heights)", "unlike_count(thing_number, n)"],
     "cards": ["cards_of(heights)", "heights_of(cards)", "plain_count(thing_number, n)", "place(heights)",
               "heights_at(n, index)"],
+    "numbered": ["leads(one, heights, other)", "plain_bridge_count(one, other, k)",
+                 "plain_bridge_at(one, other, k, number)", "plain_bridge_number(one, other, heights)"],
+    "texts": ["write_heights(heights)", "read_heights(text)"],
 }
 
 
 def defined_in(module, kind):
     tree = ast.parse((FOLDER / f"{module}.py").read_text(encoding="utf-8"))
     return [node for node in tree.body if isinstance(node, kind)]
+
+
+def heads_of(body):
+    return {f"{node.name}({ast.unparse(node.args)})" for node in body if isinstance(node, ast.FunctionDef)}
 
 
 class LanguageTest(unittest.TestCase):
@@ -63,8 +78,10 @@ class LanguageTest(unittest.TestCase):
             defined = [node.name for node in defined_in(module, ast.ClassDef)]
             self.assertLessEqual(set(names), set(defined), module)
         for module, heads in FUNCTIONS.items():
-            defined = [f"{node.name}({ast.unparse(node.args)})" for node in defined_in(module, ast.FunctionDef)]
-            self.assertLessEqual(set(heads), set(defined), module)
+            self.assertLessEqual(set(heads), heads_of(defined_in(module, ast.FunctionDef)), module)
+        for (module, name), heads in METHODS.items():
+            bodies = [node.body for node in defined_in(module, ast.ClassDef) if node.name == name]
+            self.assertLessEqual(set(heads), heads_of(bodies[0]), (module, name))
 
 
 if __name__ == "__main__":

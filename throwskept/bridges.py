@@ -35,10 +35,7 @@ def bridge(one, other):
 
 def bridge_into(state, pattern):
     """Return the least index of the pattern with the least length of a bridge to its state there, and a bridge."""
-    check_even(pattern)
-    # The things are counted ahead, because a start with other things may have more rows than there is room for.
-    if thing_count(state) != start_thing_count(pattern):
-        raise NoBridge("the pattern does not have the same number of things")
+    check_reachable(thing_count(state), pattern)
     goal = start_of_even(pattern)
     found = (bridge_length(state, goal), 0, goal)
     for index, beat in enumerate(pattern[:-1]):
@@ -47,6 +44,14 @@ def bridge_into(state, pattern):
         if length < found[0]:
             found = (length, index + 1, goal)
     return (found[1], bridge(state, found[2]))
+
+
+def check_reachable(thing_number, pattern):
+    """Raise Clash if the pattern is not even somewhere, and NoBridge if it does not have so many things."""
+    check_even(pattern)
+    # The things are counted ahead, because a start with other things may have more rows than there is room for.
+    if thing_number != start_thing_count(pattern):
+        raise NoBridge("the pattern does not have the same number of things")
 
 
 def fits(spots, other, length):
